@@ -1,0 +1,1 @@
+"""Primekinds: groups of a kind at every prime."""

@@ -1,0 +1,1 @@
+"""What all other folders build on: integers and primes."""

@@ -1,0 +1,1 @@
+"""Kinds: falling rows of integers."""

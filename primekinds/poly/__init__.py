@@ -1,0 +1,1 @@
+"""Polynomials in p with integers as their factors."""

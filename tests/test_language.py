@@ -1,0 +1,120 @@
+"""Some of the rules for the files of the package that can be told from their text alone."""
+
+import ast
+import builtins
+import io
+import pathlib
+import re
+import tokenize
+import unittest
+
+TOP = pathlib.Path(__file__).resolve().parent.parent / "primekinds"
+FILES = sorted(TOP.rglob("*.py"))
+LIBRARY = ("heapq", "math", "itertools", "collections", "__future__")
+# Words that no file has outside of comments and docstrings, and names that nothing has.
+WORDS = (
+    "type", "typing", "enum", "Enum", "Flag", "Generic", "Protocol", "ABC", "namedtuple", "dataclass", "overload",
+)
+NAMES = ("register", "mro", "elements", "open", "input", "law", "chr", "eval", "exec", "vars", "hash", "filter")
+BUILTINS = (
+    "len range enumerate zip min max sum abs sorted reversed int str bool bytes list tuple dict set frozenset "
+    "isinstance ord repr any all divmod pow map iter next Exception ValueError TypeError KeyError IndexError "
+    "LookupError ZeroDivisionError ArithmeticError OverflowError RuntimeError NotImplementedError NotImplemented "
+    "property classmethod staticmethod super"
+).split()
+
+
+def trees():
+    return [(path, ast.parse(path.read_text("ascii"))) for path in FILES]
+
+
+def bound_names(tree):
+    """All names that a file binds, those of attributes aside."""
+    names = [node.id for node in ast.walk(tree) if isinstance(node, ast.Name) and not isinstance(node.ctx, ast.Load)]
+    names += [node.arg for node in ast.walk(tree) if isinstance(node, ast.arg)]
+    names += [node.name for node in ast.walk(tree) if isinstance(node, (ast.FunctionDef, ast.ClassDef))]
+    return names
+
+
+def without_words(path):
+    """The text of a file without comments and docstrings."""
+    text = path.read_text("ascii")
+    tokens = tokenize.generate_tokens(io.StringIO(text).readline)
+    return " ".join(t.string for t in tokens if t.type != tokenize.COMMENT and not t.string.startswith('"""'))
+
+
+class Files(unittest.TestCase):
+    def test_names_of_files(self):
+        self.assertLessEqual(len(FILES), 100)
+        for path in TOP.rglob("*"):
+            if "__pycache__" not in path.parts:
+                self.assertTrue(path.is_dir() or re.fullmatch(r"[a-z_]+\.py", path.name), path)
+                self.assertTrue(path.is_file() or (path / "__init__.py").is_file(), path)
+
+    def test_sizes_and_characters(self):
+        for path, tree in trees():
+            text = path.read_bytes().decode("ascii")
+            self.assertEqual(set(re.findall(r"[^ -~\n]", text)), set(), path)
+            lines = text.split("\n")
+            self.assertLess(len(lines), 400, path)
+            self.assertLessEqual(max(len(line) for line in lines), 120, path)
+            for node in ast.walk(tree):
+                if isinstance(node, ast.FunctionDef):
+                    self.assertLessEqual(node.end_lineno - node.lineno + 1, 40, node.name)
+
+    def test_words(self):
+        for path in FILES:
+            found = re.findall(r"\w+", without_words(path))
+            self.assertEqual([word for word in found if word in WORDS], [], path)
+
+    def test_module_level(self):
+        allowed = (ast.Expr, ast.ImportFrom, ast.FunctionDef, ast.ClassDef, ast.Assign)
+        for path, tree in trees():
+            for node in tree.body:
+                self.assertIsInstance(node, allowed, path)
+                if isinstance(node, ast.Expr):
+                    self.assertIsInstance(node.value, ast.Constant, path)
+
+
+class Names(unittest.TestCase):
+    def test_imports(self):
+        for path, tree in trees():
+            for node in ast.walk(tree):
+                self.assertNotIsInstance(node, ast.Import, path)
+                if isinstance(node, ast.ImportFrom):
+                    inner = node.module.split(".")[0] == "primekinds"
+                    self.assertTrue(inner or node.module in LIBRARY, node.module)
+                    self.assertEqual((node.level, [name.asname for name in node.names if name.asname]), (0, []))
+                    target = TOP.parent.joinpath(*node.module.split(".")).with_suffix(".py")
+                    told = bound_names(ast.parse(target.read_text("ascii"))) if inner else []
+                    for name in node.names:
+                        self.assertTrue(not inner or name.name in told, (path, name.name))
+
+    def test_no_name_is_taken_twice(self):
+        for path, tree in trees():
+            imported = [name.name for node in ast.walk(tree) if isinstance(node, ast.ImportFrom) for name in node.names]
+            classes = [node.name for node in tree.body if isinstance(node, ast.ClassDef)]
+            names = bound_names(tree)
+            self.assertEqual(len(imported), len(set(imported)), path)
+            self.assertEqual([name for name in names if name in imported], [], path)
+            self.assertEqual([name for name in classes if names.count(name) > 1], [], path)
+            used = [node.id for node in ast.walk(tree) if isinstance(node, ast.Name)]
+            self.assertEqual([name for name in imported if name not in used], [], path)
+
+    def test_builtins(self):
+        for path, tree in trees():
+            for name in bound_names(tree):
+                self.assertFalse(name in vars(builtins) or name in NAMES, (path, name))
+            for node in ast.walk(tree):
+                if isinstance(node, ast.Name) and node.id in vars(builtins):
+                    self.assertIn(node.id, BUILTINS, path)
+
+    def test_no_annotations_and_no_floats(self):
+        for path, tree in trees():
+            for node in ast.walk(tree):
+                self.assertNotIsInstance(node, (ast.AnnAssign, ast.Global, ast.AsyncFunctionDef, ast.Div), path)
+                self.assertFalse(isinstance(node, ast.Constant) and isinstance(node.value, float), path)
+
+
+if __name__ == "__main__":
+    unittest.main()
