@@ -3,8 +3,7 @@
 import unittest
 
 from primekinds.kind.kinds import Kind, flats_over, kinds_of, kinds_within, lines_over
-from tests.helper import error_of, is_like, odd_values
-from tests.listing import cells, ordered, rows_up_to
+from tests.helper import cells, error_of, is_like, odd_values, ordered, rows_up_to
 
 NINES = 10 ** 60 - 1
 

@@ -5,8 +5,7 @@ import unittest
 
 from primekinds.kind.kinds import Kind
 from primekinds.poly.polys import Poly
-from tests.helper import error_of, is_like, odd_values
-from tests.listing import cells, row_of, rows_up_to
+from tests.helper import cells, error_of, is_like, odd_values, row_of, rows_up_to
 
 NINES = 10 ** 60 - 1
 ALL = rows_up_to(12)
