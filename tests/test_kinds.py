@@ -1,6 +1,7 @@
 """The class of kinds: [2.1] to [2.8]."""
 
 import itertools
+import sys
 import unittest
 
 from primekinds.kind.kinds import Kind
@@ -14,6 +15,24 @@ SOME = rows_up_to(6)
 
 def text_of(row):
     return "[" + " ".join(str(number) for number in row) + "]"
+
+
+def lines_run(call):
+    """How many lines a call runs."""
+    many = 0
+
+    def trace(frame, event, kept):
+        nonlocal many
+        many += event == "line"
+        return trace
+
+    old = sys.gettrace()
+    sys.settrace(trace)
+    try:
+        call()
+    finally:
+        sys.settrace(old)
+    return many
 
 
 class Making(unittest.TestCase):
@@ -174,8 +193,8 @@ class Opposites(unittest.TestCase):
 
     def test_outside(self):
         for row, wide, high in (
-            ((2, 1), 1, 5), ((2, 1), 2, 1), ((1,), 0, 1), ((1,), 1, 0), ((1,), 0, 0), ((12,), 12, 11), ((1,) * 12, 11, 12),
-            ((3,), 12, 2),
+            ((2, 1), 1, 5), ((2, 1), 2, 1), ((1,), 0, 1), ((1,), 1, 0), ((1,), 0, 0), ((12,), 12, 11),
+            ((1,) * 12, 11, 12), ((3,), 12, 2),
         ):
             self.assertEqual(error_of(Kind(row).opposite, wide, high), ("Refused", ("outside",)), row)
 
@@ -225,7 +244,7 @@ class Strings(unittest.TestCase):
     def test_each_cut_and_each_wrong_character(self):
         texts = [text_of(row) for row in ALL]
         starts = {text[:end] for text in texts for end in range(len(text) + 1)}
-        for text in texts[:40] + texts[40::16]:
+        for text in texts:
             for end in range(len(text)):
                 self.assertEqual(error_of(Kind.read, text[:end]), ("ParseError", end), text[:end])
                 for sign in "0123456789 []-,x\n":
@@ -233,6 +252,11 @@ class Strings(unittest.TestCase):
                         wrong = text[:end] + sign + text[end:]
                         self.assertEqual(error_of(Kind.read, wrong), ("ParseError", end), wrong)
             self.assertEqual(error_of(Kind.read, text + "]"), ("ParseError", len(text)))
+
+    def test_reading_takes_few_steps(self):
+        # A step is a line that is run. To list all kinds, or to try each start of their strings, takes thousands.
+        for text in (text_of((1,) * 12), "[12]", "[" + "1 " * 11 + "12", "[" + "1 " * 11 + "1"):
+            self.assertLess(lines_run(lambda: error_of(Kind.read, text)), 400, text)
 
     def test_what_is_no_string(self):
         for value in odd_values() + (0, 1, b"[]", ["[", "]"], ("[]",), Kind(), [], None):

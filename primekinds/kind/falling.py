@@ -84,9 +84,32 @@ def falling_text(row):
     return f"[{words}]"
 
 
-def break_index(text, texts):
-    """How far some of the texts go along with a text."""
-    index = 0
-    while index < len(text) and any([other.startswith(text[:index + 1]) for other in texts]):
-        index += 1
-    return index
+def break_index(text, most):
+    """Where a text stops to be the start of a string of a kind with a size of at most `most`; None for a whole string.
+
+    The number that is being written can be as great as `limit`, and so much of the size is `left` for it. Each number
+    can be followed by one more as long as something is left, so no start leads to nothing.
+    """
+    if not text.startswith("["):
+        return 0
+    left, limit, number = most, most, 0
+    for index in range(1, len(text)):
+        digit = "0123456789".find(text[index])
+        if digit >= 0:
+            number = 10 * number + digit
+            if number == 0 or number > limit:
+                return index
+        elif text[index] == " " and 0 < number < left:
+            left = left - number
+            limit = number if number < left else left
+            number = 0
+        elif text[index] == "]" and (number > 0 or index == 1):
+            return index + 1 if index + 1 < len(text) else None
+        else:
+            return index
+    return len(text)
+
+
+def read_falling(text):
+    """The falling row with a string, for the string of a kind."""
+    return tuple([int(word) for word in text[1:-1].split()])

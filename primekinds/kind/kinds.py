@@ -4,7 +4,7 @@ from primekinds.base.wholes import require_index, require_within
 from primekinds.errors import InvalidKind, InvalidOperation, ParseError, Refused, TooMany
 from primekinds.kind.falling import added_row, break_index, falling_rows, falling_text, is_falling, is_flat_step
 from primekinds.kind.falling import is_held, is_line_step, is_topped, joined_row, number_at, opposite_row
-from primekinds.kind.falling import slant_of, turned_row
+from primekinds.kind.falling import read_falling, slant_of, turned_row
 
 MAX_SIZE = 12
 
@@ -24,10 +24,10 @@ class Kind:
         """The kind with a string."""
         if not isinstance(text, str):
             raise InvalidOperation("a string is needed")
-        rows = {falling_text(row): row for size in range(MAX_SIZE + 1) for row in falling_rows(size, size)}
-        if text not in rows:
-            raise ParseError(break_index(text, list(rows)))
-        return cls(rows[text])
+        index = break_index(text, MAX_SIZE)
+        if index is not None:
+            raise ParseError(index)
+        return cls(read_falling(text))
 
     @property
     def numbers(self):
