@@ -1,0 +1,1 @@
+"""How many parts a group of a kind has."""

@@ -1,0 +1,1 @@
+"""Groups of a kind at a prime, their elements, and their parts."""
