@@ -1,0 +1,1 @@
+"""Maps between groups, joinings of groups, and what maps keep."""
