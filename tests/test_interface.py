@@ -4,14 +4,58 @@ import inspect
 import unittest
 
 import primekinds.base.wholes as wholes
+import primekinds.count.counts as counts
+import primekinds.group.groups as groups
+import primekinds.group.parts as parts
 import primekinds.kind.kinds as kinds
+import primekinds.maps.joinings as joinings
+import primekinds.maps.kept as kept
+import primekinds.maps.maps as maps
 import primekinds.poly.polys as polys
+import primekinds.ring.halls as halls
+import primekinds.ring.rings as rings
 
 FUNCTIONS = (
     (wholes, {"is_integer": "(value)", "is_prime": "(value)"}),
     (polys, {"binomial": "(whole, many)", "heights": "(many)", "flags": "(many)"}),
     (kinds, {
         "kinds_of": "(size)", "kinds_within": "(kind)", "flats_over": "(kind, many)", "lines_over": "(kind, many)",
+    }),
+    (groups, {
+        "height_rows": "(kind)", "count_at_least": "(kind, row)", "count_with": "(kind, row)",
+        "order_count": "(kind, many)", "leading": "(group, one, other)", "is_leading": "(group, one, other, value)",
+    }),
+    (parts, {
+        "is_table": "(group, value)", "paired": "(group, one, other)", "parts": "(group)",
+        "member_paper": "(part, element)", "is_member_paper": "(part, element, value)", "beside_paper": "(part)",
+        "is_beside_paper": "(part, value)",
+    }),
+    (counts, {
+        "part_count": "(kind, inner)", "size_count": "(kind, many)", "by_size": "(kind)", "all_count": "(kind)",
+        "kind_counts": "(kind)", "kind_of_counts": "(polys)", "tuples_within": "(kind, inner)",
+    }),
+    (halls, {
+        "hall": "(kind, rest, inner)", "flat_hall": "(kind, rest)", "can_part": "(kind, rest, inner)",
+        "pairs_in": "(kind)", "lead_count": "(kind, rest, inner)", "pairs_at_one": "(kind, rest, inner)",
+    }),
+    (rings, {
+        "in_flats": "(value)", "of_flats": "(terms)", "whole": "(size)", "signed_flat": "(size)",
+        "few_rows": "(value, many)",
+    }),
+    (maps, {
+        "map_count": "(one, other)", "one_to_one_count": "(one, other)", "onto_count": "(one, other)",
+        "undoable_count": "(kind)", "image_counts": "(one, other)", "kind_of_maps": "(exponents)",
+        "is_images": "(group, other, value)", "maps": "(group, other)", "into_paper": "(group, other)",
+        "is_into_paper": "(group, other, value)",
+    }),
+    (joinings, {
+        "glues": "(prime, rest, inner)", "glue_count": "(rest, inner)", "joined_counts": "(rest, inner)",
+        "crossed_count": "(one, other, third, fourth)", "quarter_sum": "(one, other, third, fourth)",
+    }),
+    (kept, {
+        "kept_rows": "(kind)", "kept_part": "(group, row)", "is_kept": "(part)", "kept_paper": "(part)",
+        "is_kept_paper": "(part, value)", "least_kept": "(part)", "greatest_kept": "(part)",
+        "undoable_kept": "(group)", "has_odd_parts": "(prime, kind)",
     }),
 )
 METHODS = (
@@ -23,6 +67,22 @@ METHODS = (
         "read": "(text)", "holds": "(self, other)", "tops": "(self, other)", "over": "(self, other)",
         "opposite": "(self, wide, high)", "__init__": "(self, numbers=())",
     }),
+    (groups.Group, {
+        "__init__": "(self, prime, kind)", "members": "(self)", "plus": "(self, element, other)",
+        "times": "(self, element, number)", "order_of": "(self, element)", "height_of": "(self, element)",
+        "height_row_of": "(self, element)",
+    }),
+    (parts.Part, {"__init__": "(self, group, makers)", "of_table": "(group, table)", "holds": "(self, other)"}),
+    (rings.KindSum, {"__init__": "(self, terms=None)", "of": "(kind)", "__call__": "(self, number)"}),
+    (maps.GroupMap, {
+        "__init__": "(self, group, other, images)", "itself": "(group)", "__call__": "(self, element)",
+        "source": "(self, element)", "forth": "(self, part)", "backward": "(self, part)", "is_one_to_one": "(self)",
+        "is_onto": "(self)", "is_undoable": "(self)",
+    }),
+    (joinings.Glue, {
+        "__init__": "(self, prime, rest, inner, table)", "members": "(self)", "plus": "(self, first, second)",
+        "times": "(self, first, number)", "order_of": "(self, first)",
+    }),
 )
 OTHERS = (
     (polys.Poly, (
@@ -33,7 +93,37 @@ OTHERS = (
         "numbers", "size", "rank", "height", "slant", "turned", "repeats", "is_flat", "is_line", "__add__",
         "__getitem__", "__iter__", "__len__", "__eq__", "__lt__", "__str__",
     )),
+    (groups.Group, (
+        "prime", "kind", "size", "zero", "base", "orders", "__contains__", "__eq__", "__len__", "__str__",
+    )),
+    (parts.Part, (
+        "group", "table", "kind", "rest", "other_side", "__or__", "__and__", "__contains__", "__len__", "__iter__",
+        "__lt__", "__eq__", "__str__",
+    )),
+    (rings.KindSum, (
+        "terms", "__add__", "__sub__", "__mul__", "__neg__", "__getitem__", "__contains__", "__len__", "__bool__",
+        "__eq__", "__str__",
+    )),
+    (maps.GroupMap, (
+        "group", "other", "images", "image", "kernel", "__mul__", "__add__", "__neg__", "__invert__", "__eq__",
+        "__str__",
+    )),
+    (joinings.Glue, (
+        "prime", "rest", "inner", "table", "kind", "is_split", "size", "__add__", "__neg__", "__contains__", "__eq__",
+        "__str__",
+    )),
 )
+CONSTANTS = (
+    (polys, {"MAX_FACTORS": 400, "MAX_DEGREE": 2000}),
+    (kinds, {"MAX_SIZE": 12}),
+    (groups, {"GROUP_PRIMES": (2, 3, 5, 7), "MAX_ELEMENTS": 256}),
+    (parts, {"MAX_MAKERS": 16, "MAX_PARTS": 3000}),
+    (halls, {"MAX_HALL": 8}),
+    (rings, {"MAX_RING": 8}),
+    (maps, {"MAX_MAPS": 5000}),
+    (joinings, {"MAX_JOINED": 8, "MAX_GLUED": 256, "MAX_GLUES": 2000}),
+)
+GENERATORS = (groups.Group.members, parts.parts, maps.maps, joinings.glues, joinings.Glue.members)
 
 
 class Interface(unittest.TestCase):
@@ -59,11 +149,20 @@ class Interface(unittest.TestCase):
                     self.assertIn(name, vars(owner))
 
     def test_constants(self):
-        self.assertEqual((polys.MAX_FACTORS, polys.MAX_DEGREE, kinds.MAX_SIZE), (400, 2000, 12))
+        for module, told in CONSTANTS:
+            for name, value in told.items():
+                self.assertEqual(getattr(module, name), value, name)
+
+    def test_generators(self):
+        for function in GENERATORS:
+            self.assertTrue(inspect.isgeneratorfunction(function), function)
 
     def test_classes_stand_in_their_files(self):
-        self.assertEqual(polys.Poly.__module__, "primekinds.poly.polys")
-        self.assertEqual(kinds.Kind.__module__, "primekinds.kind.kinds")
+        for owner, module in (
+            (polys.Poly, polys), (kinds.Kind, kinds), (groups.Group, groups), (parts.Part, parts),
+            (rings.KindSum, rings), (maps.GroupMap, maps), (joinings.Glue, joinings),
+        ):
+            self.assertEqual(owner.__module__, module.__name__)
 
 
 if __name__ == "__main__":

@@ -116,5 +116,76 @@ class Names(unittest.TestCase):
                 self.assertFalse(isinstance(node, ast.Constant) and isinstance(node.value, float), path)
 
 
+def functions_of(tree):
+    return [node for node in ast.walk(tree) if isinstance(node, ast.FunctionDef)]
+
+
+def calls_of(tree, names):
+    """The calls of functions by these bare names."""
+    calls = [node for node in ast.walk(tree) if isinstance(node, ast.Call)]
+    return [node for node in calls if isinstance(node.func, ast.Name) and node.func.id in names]
+
+
+class Values(unittest.TestCase):
+    def test_exponents_are_literals(self):
+        for path, tree in trees():
+            for node in ast.walk(tree):
+                if isinstance(node, ast.BinOp) and isinstance(node.op, ast.Pow):
+                    self.assertIsInstance(node.right, ast.Constant, path)
+                self.assertFalse(isinstance(node, ast.AugAssign) and isinstance(node.op, ast.Pow), path)
+
+    def test_lists_where_classes_compare(self):
+        for path, tree in trees():
+            for node in calls_of(tree, ("any", "all", "min", "max", "sum", "sorted")):
+                self.assertFalse(any(isinstance(one, ast.GeneratorExp) for one in node.args), (path, node.lineno))
+
+    def test_sets_are_used_at_once(self):
+        for path, tree in trees():
+            inner = []
+            for node in calls_of(tree, ("sorted", "len")):
+                inner += [id(one) for arg in node.args for one in ast.walk(arg)]
+            written = [node for node in ast.walk(tree) if isinstance(node, (ast.Set, ast.SetComp))]
+            sets = calls_of(tree, ("set",)) + written
+            self.assertEqual([node.lineno for node in sets if id(node) not in inner], [], path)
+
+    def test_only_plain_steps_are_added_in_place(self):
+        for path, tree in trees():
+            for node in ast.walk(tree):
+                if isinstance(node, ast.AugAssign):
+                    plain = isinstance(node.target, ast.Name) and isinstance(node.value, ast.Constant)
+                    self.assertTrue(plain, (path, node.lineno))
+
+
+class Classes(unittest.TestCase):
+    def test_generators_have_names_of_their_own(self):
+        functions = [node for _, tree in trees() for node in functions_of(tree)]
+        yielding = (ast.Yield, ast.YieldFrom)
+        generators = [node for node in functions if any(isinstance(one, yielding) for one in ast.walk(node))]
+        names = {node.name for node in generators}
+        self.assertEqual(names, {"members", "parts", "maps", "glues"})
+        self.assertEqual([node.name for node in functions if node.name in names and node not in generators], [])
+
+    def test_properties_have_names_of_their_own(self):
+        properties, others = set(), set()
+        for _, tree in trees():
+            for owner in [node for node in tree.body if isinstance(node, ast.ClassDef)]:
+                for node in functions_of(owner):
+                    marks = [mark.id for mark in node.decorator_list]
+                    (properties if "property" in marks else others).add(node.name)
+        self.assertEqual(properties & others, set())
+
+    def test_orders_and_equality_have_one_key(self):
+        for path, tree in trees():
+            for owner in [node for node in tree.body if isinstance(node, ast.ClassDef)]:
+                methods = {node.name: ast.unparse(node.body[-1]) for node in functions_of(owner)}
+                if "__eq__" in methods:
+                    key = re.fullmatch(
+                        rf"return isinstance\(other, {owner.name}\) and self\.(\w+) == other\.(\w+)", methods["__eq__"]
+                    )
+                    self.assertIsNotNone(key, (path, owner.name))
+                    told = f"return self.{key[1]} < other.{key[2]}"
+                    self.assertEqual((key[1], methods.get("__lt__", told)), (key[2], told))
+
+
 if __name__ == "__main__":
     unittest.main()
