@@ -21,9 +21,9 @@ class Part:
     def __init__(self, group, makers):
         require_group(group)
         if not isinstance(makers, tuple) or len(makers) > MAX_MAKERS:
-            raise InvalidPart("makers are a tuple of at most 16 elements")
+            raise InvalidPart("makers are a tuple of at most 16 members of the group")
         if not all([maker in group for maker in makers]):
-            raise InvalidPart("each maker is an element of the group")
+            raise InvalidPart("each maker is a member of the group")
         table = least_table(group.orders, makers)
         self._group = group
         self._table = table

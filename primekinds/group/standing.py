@@ -70,9 +70,9 @@ def is_kept_row(numbers, value):
 
 
 def is_sharp(numbers, powers, place):
-    """Whether, for a kept row, own maps reach its element's power at the places of a number from no other places.
+    """Whether, for a kept row, own maps reach the power at a place only from places with the same number.
 
-    Such a number is told by the elements which own maps lead to each other, and others only have a least power there.
+    If so, undoable own maps lead the element with these powers to none with greater powers at all these places.
     """
     number = numbers[place]
     ways = [power + max(0, number - other) for other, power in zip(numbers, powers) if other != number]

@@ -85,7 +85,7 @@ def falling_text(row):
 
 
 def break_index(text, most):
-    """Where a text stops to be the start of a string of a kind with a size of at most `most`; None for a whole string.
+    """Where a text stops being the start of a string of a kind with a size of at most `most`; None for a whole string.
 
     The number that is being written can be as great as `limit`, and so much of the size is `left` for it. Each number
     can be followed by one more as long as something is left, so no start leads to nothing.

@@ -71,7 +71,7 @@ class GroupMap:
     def __init__(self, group, other, images):
         require_groups(group, other)
         if not are_images(group.orders, other.orders, images):
-            raise InvalidMap("the images are elements that vanish by the orders of the places")
+            raise InvalidMap("each image must vanish by the order of its place")
         self._group = group
         self._other = other
         self._images = images
