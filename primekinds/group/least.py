@@ -9,7 +9,7 @@ can be.
 from math import gcd
 
 from primekinds.base.powers import inverse_in, power_in, power_of
-from primekinds.group.entries import all_entries, taken_in
+from primekinds.group.entries import taken_in
 
 
 def less_times(row, other, times):
@@ -111,29 +111,6 @@ def table_members(orders, table):
             for sums in found for entry in range(sums[i] % row[i], orders[i], row[i])
         ]
     return tuple(found)
-
-
-def first_rows(prime, order, table):
-    """All rows that can stand ahead of the rows of a table, for a first place with this order."""
-    residues = all_entries([row[i] for i, row in enumerate(table)])
-    found = []
-    lead = 1
-    while lead <= order:
-        times = order // lead
-        found.extend([(lead, *row) for row in residues if is_made(table, [times * entry for entry in row])])
-        lead = lead * prime
-    return found
-
-
-def all_tables(prime, orders):
-    """The ascending list of the least tables of all parts."""
-    tables = [()]
-    for order in orders[::-1]:
-        tables = [
-            (first, *[(0, *row) for row in table])
-            for table in tables for first in first_rows(prime, order, table)
-        ]
-    return sorted(tables)
 
 
 def left_numbers(prime, rows, most):

@@ -7,8 +7,9 @@ from primekinds.errors import InvalidPart, TooMany
 from primekinds.group.besides import beside_makers, higher_element, is_higher
 from primekinds.group.entries import led_entries, taken_in
 from primekinds.group.groups import require_element, require_group, require_pair
-from primekinds.group.least import all_tables, is_made, joined_table, least_table, left_numbers, quotients, side_rows
+from primekinds.group.least import is_made, joined_table, least_table, left_numbers, no_table, quotients, side_rows
 from primekinds.group.least import side_table, table_members, taken_off
+from primekinds.group.listing import due_over, tables_due
 from primekinds.kind.kinds import Kind
 
 MAX_MAKERS = 16
@@ -158,7 +159,9 @@ def parts(group):
     require_group(group)
     if all_count(group.kind)(group.prime) > MAX_PARTS:
         raise TooMany(MAX_PARTS)
-    for table in all_tables(group.prime, group.orders):
+    prime, orders = group.prime, group.orders
+    known, due = {}, due_over(no_table(orders))
+    for table in tables_due(prime, orders, known, due):
         yield part_of(group, table)
 
 

@@ -68,8 +68,8 @@ def kept_paper(part):
         return ("kept", row)
     # Each own map is a sum of multiples of those that lead one place to one place.
     group = part.group
-    places = range(len(group))
-    for images in [place_images(group, place, target) for place in places for target in places]:
+    indices = range(len(group))
+    for images in [place_images(group, place, target) for place in indices for target in indices]:
         for maker in part.table:
             element = taken_in(group.orders, maker)
             if not is_made(part.table, led_entries(group.orders, images, element)):
