@@ -1,0 +1,1 @@
+"""Fillings, rows of parts, and inverse sums."""

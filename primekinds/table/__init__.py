@@ -1,0 +1,1 @@
+"""Tables of integers modulo powers of primes, places of whole points, and shares."""
