@@ -1,0 +1,1 @@
+"""Desks, which keep parts of a group under names."""

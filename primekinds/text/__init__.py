@@ -1,0 +1,1 @@
+"""Values as strings."""
