@@ -4,6 +4,7 @@ Groups are told here by a prime and the numbers of a kind, and parts by the sets
 """
 
 import itertools
+import sys
 
 import primekinds.errors as errors
 
@@ -40,8 +41,32 @@ def is_like(one, other):
     return one == other
 
 
+def lines_run(call):
+    """How many lines a call runs."""
+    many = 0
+
+    def trace(frame, event, kept):
+        nonlocal many
+        many += event == "line"
+        return trace
+
+    old = sys.gettrace()
+    sys.settrace(trace)
+    try:
+        call()
+    finally:
+        sys.settrace(old)
+    return many
+
+
+def first_of(generator, many):
+    """The first ones of a generator; no others are asked for."""
+    return list(itertools.islice(generator, many))
+
+
 def odd_values():
     """Values that are no integers that may be passed."""
+    from primekinds.desk.desk import Desk
     from primekinds.group.groups import Group
     from primekinds.group.parts import Part
     from primekinds.kind.kinds import Kind
@@ -49,11 +74,14 @@ def odd_values():
     from primekinds.maps.maps import GroupMap
     from primekinds.poly.polys import Poly
     from primekinds.ring.rings import KindSum
+    from primekinds.table.places import Place
+    from primekinds.table.tables import Table
     group = Group(3, Kind((1,)))
     return (
         True, False, None, "", "1", "a\nb", (), (1,), ((1,), 2), [], [1], {}, {1: 2}, [[[[1]]]],
         Poly(), Poly((1,)), Kind(), Kind((1,)), 10 ** 60, -10 ** 60, 10 ** 99, -10 ** 99,
         group, Part(group, ((1,),)), GroupMap.itself(group), KindSum(), Glue(3, Kind(), Kind((1,)), ()),
+        Table(3, 1, ((1,),)), Place(1, ((3,),)), Desk(group),
     )
 
 
@@ -64,7 +92,10 @@ def odd_ones(*left_out):
 
 def paper_values():
     """Values of every sort, many of them nearly papers."""
-    words = ("images", "height", "sum", "mute", "beside", "higher", "into", "rank", "kept", "out", "none")
+    words = (
+        "images", "height", "sum", "mute", "beside", "higher", "into", "rank", "kept", "out", "makes", "within",
+        "turned", "kinds", "none",
+    )
     ends = (None, True, 0, 1, 10 ** 70, -1, (), (0,), (True, 0), ((0, 0), (0, 0)), "x", [0], {})
     pairs = [(word, end) for word in words for end in ends]
     return list(odd_values()) + pairs + [list(pair) for pair in pairs[:4]] + [pair + (0,) for pair in pairs[:4]] + [

@@ -4,7 +4,11 @@ import pathlib
 import unittest
 
 import primekinds.base.wholes as wholes
+import primekinds.chain.fillings as fillings
+import primekinds.chain.inverse as inverse
+import primekinds.chain.rows as rows
 import primekinds.count.counts as counts
+import primekinds.desk.desk as desk
 import primekinds.group.groups as groups
 import primekinds.group.parts as parts
 import primekinds.kind.kinds as kinds
@@ -14,9 +18,16 @@ import primekinds.maps.maps as maps
 import primekinds.poly.polys as polys
 import primekinds.ring.halls as halls
 import primekinds.ring.rings as rings
+import primekinds.table.places as places
+import primekinds.table.shares as shares
+import primekinds.table.tables as tables
+import primekinds.text.strings as strings
 from tests.helper import run_examples
 
-MODULES = (wholes, polys, kinds, groups, parts, counts, halls, rings, maps, joinings, kept)
+MODULES = (
+    wholes, polys, kinds, groups, parts, counts, halls, rings, maps, joinings, kept, fillings, rows, inverse, tables,
+    places, shares, strings, desk,
+)
 
 STAGE_1 = """
 >>> [str(Poly((1, -2, 0, 1))), Poly.read("-p^2 + 3").factors, Poly((0, 0)) == Poly(), str(Poly()), Poly((5, 1))(2), Poly().degree]
@@ -180,6 +191,73 @@ STAGE_10 = """
 raises InvalidOperation
 """
 
+STAGE_11 = """
+>>> three = Kind((1, 1, 1))
+>>> [list(fillings(STEP, (1, 1, 1))), [weight(word_of(one)) for one in fillings(STEP, (1, 1, 1))], filling_count(LONG, (1, 2, 1)), filling_count(LONG, (2, 0, 2))]
+[[((1, 2), (3,)), ((1, 3), (2,))], [2, 1], 2, 1]
+>>> [str(weight_poly(STEP, three)), str(weight_poly(Kind((3,)), STEP)), str(weight_poly(STEP, STEP)), str(weight_poly(STEP, Kind((3,)))), word_of(((1, 1, 2), (3,)))]
+['p^2 + p', 'p', '1', '0', (3, 1, 1, 2)]
+>>> [is_filling(STEP, (2, 1), ((1, 1), (2,))), is_filling(STEP, (2, 1), ((1, 2), (1,))), is_filling(STEP, (2, 1), ((1, 1), (3,)))]
+[True, False, False]
+>>> [str(row_count(three, (1, 1, 1))), str(row_count(STEP, (1, 1, 1))), str(row_count(STEP, (2, 1))), str(flat_row_count(STEP, (2, 1))), str(flat_row_count(three, (1, 2)))]
+['p^3 + 2p^2 + 2p + 1', '2p + 1', 'p + 1', '1', 'p^2 + p + 1']
+>>> [str(step_row_count(STEP, (ONE, TWO))), str(step_row_count(STEP, (ONE, FLAT))), str(step_row_count(STEP, (TWO, ONE)))]
+['p', '1', 'p']
+>>> [[len(part) for part in row] for row in rows_of_parts(G, (2, 1))], len(list(rows_of_parts(G, (1, 1, 1))))
+([[4, 8], [4, 8], [4, 8]], 5)
+>>> weight((1, 2, 2))
+raises Refused(('contents', 1))
+"""
+
+STAGE_12 = """
+>>> G, F = Group(2, Kind((2, 1))), Group(2, Kind((1, 1)))
+>>> [len(greatest_parts(G)), len(greatest_parts(F)), str(inverse_count(Kind((2, 1)), 2)), str(inverse_count(Kind((3,)), 1)), str(inverse_count(Kind((3,)), 2))]
+[3, 3, 'p', '-1', '0']
+>>> [str(making_count(Kind((1, 1)), 2)), making_count(Kind((2, 1)), 2)(2), str(making_count(Kind((1, 1)), 1)), str(making_count(Kind(), 0))]
+['p^4 - p^3 - p^2 + p', 24, '0', '1']
+>>> [inverse(Part(G, ()), Part(G, ((2, 0), (0, 1)))), inverse(Part(G, ()), Part(G, ((1, 0),))), inverse(Part(G, ((2, 0),)), Part(G, ((1, 0), (0, 1))))]
+[2, 0, 2]
+>>> [beside_count(Part(G, ((1, 0),))), beside_count(Part(G, ((2, 0),))), beside_count(Part(G, ((0, 1),)))]
+[2, 0, 2]
+>>> [is_makes_paper(G, ((1, 1), (0, 1)), ("makes", ((1, 1), (0, 1)))), is_makes_paper(G, ((1, 0), (3, 0)), ("within", Part(G, ((1, 0),))))]
+[True, True]
+>>> [sums_below(F, (1, 1, 1, 1, 1)), inverted(F, (5, 2, 2, 2, 1)), makes_paper(F, ((1, 0), (1, 0)))[0]]
+[(5, 2, 2, 2, 1), (1, 1, 1, 1, 1), 'within']
+>>> makes_paper(G, ((0, 2),))
+raises InvalidElement
+"""
+
+STAGE_13 = """
+>>> one, other = Table(2, 2, ((1, 1), (1, 3))), Table(2, 2, ((2, 0), (0, 1)))
+>>> [str(one), str(one.left), str(other.plain()), one.is_turning, is_alike_paper(one, other, alike_paper(one, other)), alike_paper(one, Table(2, 2, ((2, 0), (0, 2))))[0]]
+['1 1/1 3 modulo 2^2', '[1]', '1 0/0 2 modulo 2^2', False, True, 'kinds']
+>>> [str(left_count(2, 2, 2, Kind((1,)))), str(left_count(2, 2, 2, Kind((1, 1, 1)))), [left_count(2, 2, 2, Kind(row))(2) for row in ((), (1,), (2,), (1, 1), (2, 1), (2, 2))]]
+['p^7 - 2p^5 + p^3', '0', [96, 72, 72, 6, 9, 1]]
+>>> place = Place(2, ((2, 0), (1, 3)))
+>>> [str(place), place.class_count, [str(place.kind_at(prime)) for prime in (2, 3, 5)], (4, 0) in place, (3, 0) in place, [some.table for some in places(2, 2)]]
+['place of 1 3/0 6', 6, ['[1]', '[1]', '[]'], True, False, [((1, 0), (0, 2)), ((1, 1), (0, 2)), ((2, 0), (0, 1))]]
+>>> [index_count(3, 4), str(index_poly(2, 2)), str(place_count(2, Kind((2,)))), share(2, Kind((1, 1))), size_share(2, 2), onto_share(2, 3, Kind((1,))), left_share(2, 2, 2, 2, Kind((1,)))]
+[35, 'p^2 + p + 1', 'p^2 + p', (1, 6), (2, 3), (2, 3), (9, 32)]
+>>> Place(2, ((1, 2), (2, 4)))
+raises Refused(('thin',))
+"""
+
+STAGE_14 = """
+>>> [write_value(Poly((1, 0, -2))), write_value(STEP), write_value(G), write_value(Part(G, ((1, 1),))), write_value(Table(2, 2, ((1, 2, 3), (0, 0, 1))))]
+['poly 1 0 -2', 'kind 2 1', 'group 2 2 1', 'part 2 2 1 / 1 1 0 2', 'table 2 2 3 1 2 3 0 0 1']
+>>> [write_value(GroupMap(G, Group(2, TWO), ((1,), (2,)))), write_value(Place(2, ((2, 0), (1, 3)))), read_value("kind") == NONE, read_value("part 2 1 / 2").kind == NONE]
+['map 2 2 1 / 2 / 1 2', 'place 2 1 3 0 6', True, True]
+>>> read_value("kind 3 01")
+raises ParseError(2)
+>>> read_value("kind 3 4")
+raises ParseError(3)
+>>> desk, turn = Desk(G), Part(G, ((1, 1),))
+>>> [desk.put("x", turn), desk.follow("y", "side", "x"), desk.follow("z", "met", "x", "y"), desk.promise("p", ("kind", "y", (1,))), str(desk)]
+[1, 2, 3, 4, 'desk of [2 1] at 2 with 3 names, 1 promises']
+>>> [str(desk.part_under("y")), str(desk.part_under("z")), desk.rule("z"), desk.hanging("x"), desk.broken_by("x", Part(G, ()))]
+['2 1/0 2', '4 0/0 2', ('met', 'x', 'y'), ('y', 'z'), ('p',)]
+"""
+
 
 class Examples(unittest.TestCase):
     def names(self):
@@ -220,10 +298,22 @@ class Examples(unittest.TestCase):
     def test_stage_10(self):
         run_examples(self, STAGE_10, self.names())
 
+    def test_stage_11(self):
+        run_examples(self, STAGE_11, self.names())
+
+    def test_stage_12(self):
+        run_examples(self, STAGE_12, self.names())
+
+    def test_stage_13(self):
+        run_examples(self, STAGE_13, self.names())
+
+    def test_stage_14(self):
+        run_examples(self, STAGE_14, self.names())
+
     def test_the_readme(self):
         text = (pathlib.Path(__file__).resolve().parent.parent / "README.md").read_text("ascii")
         blocks = text.split("```python\n")[1:]
-        self.assertEqual(len(blocks), 6)
+        self.assertEqual(len(blocks), 9)
         run_examples(self, "".join(block.split("```")[0] for block in blocks), {})
 
 

@@ -4,7 +4,12 @@ import inspect
 import unittest
 
 import primekinds.base.wholes as wholes
+import primekinds.chain.fillings as fillings
+import primekinds.chain.inverse as inverse
+import primekinds.chain.rows as rows
 import primekinds.count.counts as counts
+import primekinds.desk.desk as desks
+import primekinds.errors as errors
 import primekinds.group.groups as groups
 import primekinds.group.parts as parts
 import primekinds.kind.kinds as kinds
@@ -14,6 +19,10 @@ import primekinds.maps.maps as maps
 import primekinds.poly.polys as polys
 import primekinds.ring.halls as halls
 import primekinds.ring.rings as rings
+import primekinds.table.places as places
+import primekinds.table.shares as shares
+import primekinds.table.tables as tables
+import primekinds.text.strings as strings
 
 FUNCTIONS = (
     (wholes, {"is_integer": "(value)", "is_prime": "(value)"}),
@@ -57,6 +66,33 @@ FUNCTIONS = (
         "is_kept_paper": "(part, value)", "least_kept": "(part)", "greatest_kept": "(part)",
         "undoable_kept": "(group)", "has_odd_parts": "(prime, kind)",
     }),
+    (fillings, {
+        "is_filling": "(shape, contents, value)", "fillings": "(shape, contents)",
+        "filling_count": "(shape, contents)", "word_of": "(filling)", "weight": "(word)",
+        "weight_poly": "(shape, kind)",
+    }),
+    (rows, {
+        "row_count": "(kind, sizes)", "flat_row_count": "(kind, sizes)", "step_row_count": "(kind, steps)",
+        "rows_of_parts": "(group, sizes)", "is_row_of_parts": "(group, sizes, value)",
+    }),
+    (inverse, {
+        "inverse": "(part, other)", "sums_below": "(group, numbers)", "inverted": "(group, sums)",
+        "inverse_count": "(kind, many)", "making_count": "(kind, many)", "makes_paper": "(group, some)",
+        "is_makes_paper": "(group, some, value)", "greatest_parts": "(group)", "beside_count": "(part)",
+    }),
+    (tables, {
+        "alike_paper": "(one, other)", "is_alike_paper": "(one, other, value)",
+        "left_count": "(rows, columns, many, kind)",
+    }),
+    (places, {
+        "places": "(coordinates, index)", "index_count": "(coordinates, index)", "index_poly": "(coordinates, many)",
+        "place_count": "(coordinates, kind)",
+    }),
+    (shares, {
+        "share": "(prime, kind)", "size_share": "(prime, size)", "onto_share": "(prime, size, kind)",
+        "left_share": "(prime, rows, columns, many, kind)",
+    }),
+    (strings, {"write_value": "(value)", "read_value": "(string)"}),
 )
 METHODS = (
     (polys.Poly, {
@@ -82,6 +118,17 @@ METHODS = (
     (joinings.Glue, {
         "__init__": "(self, prime, rest, inner, table)", "members": "(self)", "plus": "(self, first, second)",
         "times": "(self, first, number)", "order_of": "(self, first)",
+    }),
+    (tables.Table, {"__init__": "(self, prime, many, rows)", "plain": "(self)", "turnings": "(self)"}),
+    (places.Place, {
+        "__init__": "(self, coordinates, points)", "kind_at": "(self, prime)", "holds": "(self, other)",
+    }),
+    (desks.Desk, {
+        "__init__": "(self, group)", "put": "(self, name, part)", "follow": "(self, name, rule, *others)",
+        "drop": "(self, name)", "promise": "(self, label, promise)", "free": "(self, label)",
+        "undo": "(self, *, many=1)", "redo": "(self, *, many=1)", "during": "(self, call)",
+        "part_under": "(self, name)", "rule": "(self, name)", "hanging": "(self, name)", "promised": "(self, label)",
+        "broken_by": "(self, name, part)", "twin": "(self)",
     }),
 )
 OTHERS = (
@@ -112,6 +159,15 @@ OTHERS = (
         "prime", "rest", "inner", "table", "kind", "is_split", "size", "__add__", "__neg__", "__contains__", "__eq__",
         "__str__",
     )),
+    (tables.Table, (
+        "prime", "exponent", "rows", "left", "is_turning", "__mul__", "__invert__", "__len__", "__iter__", "__eq__",
+        "__str__",
+    )),
+    (places.Place, (
+        "coordinates", "table", "class_count", "__or__", "__and__", "__contains__", "__eq__", "__len__", "__iter__",
+        "__str__",
+    )),
+    (desks.Desk, ("group", "names", "labels", "deeds", "__contains__", "__len__", "__eq__", "__str__")),
 )
 CONSTANTS = (
     (polys, {"MAX_FACTORS": 400, "MAX_DEGREE": 2000}),
@@ -122,8 +178,18 @@ CONSTANTS = (
     (rings, {"MAX_RING": 8}),
     (maps, {"MAX_MAPS": 5000}),
     (joinings, {"MAX_JOINED": 8, "MAX_GLUED": 256, "MAX_GLUES": 2000}),
+    (wholes, {"PRIMES": tuple(n for n in range(2, 98) if all(n % k for k in range(2, n)))}),
+    (fillings, {"MAX_FILLINGS": 2000, "MAX_WEIGHED": 8}),
+    (rows, {"MAX_ROWS": 2000, "MAX_STEPPED": 8}),
+    (inverse, {"MAX_MADE": 8, "MAX_POWER": 12, "MAX_SUMMED": 100}),
+    (tables, {"MAX_SIDE": 4, "MAX_LEFT": 12}),
+    (places, {"MAX_COORDINATES": 4, "MAX_POINTS": 12, "MAX_INDEX": 10 ** 6, "MAX_PLACES": 3000}),
+    (desks, {"MAX_NAMES": 12, "MAX_PROMISES": 12, "RULES": ("joined", "kept", "met", "side")}),
 )
-GENERATORS = (groups.Group.members, parts.parts, maps.maps, joinings.glues, joinings.Glue.members)
+GENERATORS = (
+    groups.Group.members, parts.parts, maps.maps, joinings.glues, joinings.Glue.members, fillings.fillings,
+    rows.rows_of_parts, places.places,
+)
 
 
 class Interface(unittest.TestCase):
@@ -160,7 +226,8 @@ class Interface(unittest.TestCase):
     def test_classes_stand_in_their_files(self):
         for owner, module in (
             (polys.Poly, polys), (kinds.Kind, kinds), (groups.Group, groups), (parts.Part, parts),
-            (rings.KindSum, rings), (maps.GroupMap, maps), (joinings.Glue, joinings),
+            (rings.KindSum, rings), (maps.GroupMap, maps), (joinings.Glue, joinings), (tables.Table, tables),
+            (places.Place, places), (desks.Desk, desks), (errors.Refused, errors),
         ):
             self.assertEqual(owner.__module__, module.__name__)
 

@@ -1,12 +1,11 @@
 """The class of kinds: [2.1] to [2.8]."""
 
 import itertools
-import sys
 import unittest
 
 from primekinds.kind.kinds import Kind
 from primekinds.poly.polys import Poly
-from tests.helper import cells, error_of, is_like, odd_values, row_of, rows_up_to
+from tests.helper import cells, error_of, is_like, lines_run, odd_values, row_of, rows_up_to
 
 NINES = 10 ** 60 - 1
 ALL = rows_up_to(12)
@@ -15,24 +14,6 @@ SOME = rows_up_to(6)
 
 def text_of(row):
     return "[" + " ".join(str(number) for number in row) + "]"
-
-
-def lines_run(call):
-    """How many lines a call runs."""
-    many = 0
-
-    def trace(frame, event, kept):
-        nonlocal many
-        many += event == "line"
-        return trace
-
-    old = sys.gettrace()
-    sys.settrace(trace)
-    try:
-        call()
-    finally:
-        sys.settrace(old)
-    return many
 
 
 class Making(unittest.TestCase):

@@ -162,8 +162,18 @@ class Classes(unittest.TestCase):
         yielding = (ast.Yield, ast.YieldFrom)
         generators = [node for node in functions if any(isinstance(one, yielding) for one in ast.walk(node))]
         names = {node.name for node in generators}
-        self.assertEqual(names, {"members", "parts", "maps", "glues"})
+        self.assertEqual(names, {
+            "members", "parts", "maps", "glues", "fillings", "rows_of_parts", "places",
+            "tables_due", "tables_of_index", "fillings_below", "rows_above", "entries_below", "tables_split",
+        })
         self.assertEqual([node.name for node in functions if node.name in names and node not in generators], [])
+        once = [node.name for node in generators if node.name != "members"]
+        self.assertEqual(len(once), len(set(once)))
+        for path, tree in trees():
+            stored = [
+                node.id for node in ast.walk(tree) if isinstance(node, ast.Name) and not isinstance(node.ctx, ast.Load)
+            ]
+            self.assertEqual([name for name in stored if name in names - {"members"}], [], path)
 
     def test_properties_have_names_of_their_own(self):
         properties, others = set(), set()
