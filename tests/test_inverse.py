@@ -109,6 +109,7 @@ class Sums(unittest.TestCase):
         self.assertEqual((sums_below(group, (3,)), inverted(group, (-3,))), ((3,), (-3,)))
 
     def test_many_and_too_many(self):
+        # No group has from 84 to 107 parts.
         for row, many in (((4, 4), 83), ((3, 2, 1), 81), ((4, 3), 52)):
             group = Group(2, Kind(row))
             numbers = tuple(range(many))

@@ -86,9 +86,9 @@ def can_split(number, least):
 
 
 def entries_below(number, least, place):
-    """What can stand from a place on in a tuple of integers from 0 on, ascending, of which all are less than others.
+    """All ways to go on from a place in a tuple of integers from 0 on, ascending, that are each less than a factor.
 
-    These others have the number as their product, and are at least those of a tuple.
+    The factors have the number as their product, and each one is at least the integer of a tuple at its place.
     """
     if place == len(least):
         yield ()
